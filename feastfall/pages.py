@@ -41,10 +41,15 @@ def waited(entries, rows):
     return sum([day - own[(number, year)] for number, year, how, day in rows if how == "stands"])
 
 
+def days_of(turn):
+    """The days on which the one that turns stands or is noted, ahead or behind."""
+    number, year, before, after = turn
+    return [place[1] for place in (before, after) if place is not None and place[0] != "out"]
+
+
 def stretch(turns):
-    """The least and the greatest day on which one of the turns has somebody standing or noted, or None."""
-    places = [place for number, year, before, after in turns for place in (before, after) if place is not None]
-    days = [day for how, day in places if how != "out"]
+    """The least and the greatest day of the turns on which somebody stands or is noted, or None."""
+    days = [day for turn in turns for day in days_of(turn)]
     if not days:
         return None
     return (min(days), max(days))

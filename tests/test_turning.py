@@ -300,7 +300,8 @@ class KindsAndLists(unittest.TestCase):
                 list(take_out(self.entries, self.shut, number, year)), [turned(self.rows, self.others)])
 
     def test_what_kinds_are_told(self):
-        for told in (put_in(self.entries, self.shut, self.one), take_out(self.entries, self.shut, *self.entries[3][1:3])):
+        name = self.entries[3][1:3]
+        for told in (put_in(self.entries, self.shut, self.one), take_out(self.entries, self.shut, *name)):
             self.assertEqual((type(told), len(told)), (tuple, 2))
             self.assertEqual([type(part) for part in told], [list, list])
             self.assertEqual({(type(row), len(row)) for row in told[0] + told[1]}, {(tuple, 4)})

@@ -26,7 +26,7 @@ WORDS = tuple(order[0] for order, _ in EACH)
 NUMBERS = (0,) + tuple(sign * int("987654321098"[:figures]) for figures in range(1, 13) for sign in (1, -1)) + tuple(
     sign * 10 ** figures for figures in range(12) for sign in (1, -1))
 NO_NUMBERS = ("", "-", "-0", "+5", "+0", "05", "00", "-05", "-00", "1_0", "1_000", "_1", "--5", "5-", "5.0", "1e3",
-              "0x10", "1,000", "five", "a", "moves", "fixed", "none", "1234567890123", "-1234567890123", "1000000000000",
+              "0x10", "1,000", "five", "moves", "fixed", "none", "1234567890123", "-1234567890123", "1000000000000",
               "-1000000000000", "0000000000001", "9" * 100, "(5)", "'5'", "5;", "~", "1/2", "5\t", "-a", "1a", "a1")
 
 
